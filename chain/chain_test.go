@@ -265,3 +265,22 @@ func TestFreedByOthers(t *testing.T) {
 		}
 	}
 }
+
+// P5.5: what was answered stays, whatever is changed behind it.
+func TestHeldAnswers(t *testing.T) {
+	w := newWatch(t, 200, 2, 9, 1)
+	w.fill(1, 1, 3)
+	x := w.begin(all, 2, 1, 0)
+	w.turns()
+	listed, _ := w.base.List(1)
+	told := x.op.Answer().Values
+	for value := range 4 {
+		w.run(cut, 1, 1, int64(value))
+		w.run(front, 1, 1, 9)
+	}
+	for _, held := range [][]int64{listed, told, x.op.Answer().Values} {
+		if !slices.Equal(held, []int64{1, 2, 3}) {
+			t.Errorf("what was held has become %v", held)
+		}
+	}
+}

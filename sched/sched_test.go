@@ -297,4 +297,10 @@ func TestNewMemory(t *testing.T) {
 			got[i] = 9
 		}
 	}
+	held := s.Ready()
+	s.Block(1, 1)
+	s.End(2)
+	if !slices.Equal(held, []int{1, 2, 3}) {
+		t.Errorf("what was held has become %v", held)
+	}
 }
