@@ -67,19 +67,20 @@ func (j *Job) add(entry string, front bool) {
 			k.there[op.Id()] = struct{}{}
 			return compound(entry, base.Term(c), number(op.Id())), true // renamed already: all of the goal's variables are its own
 		},
-		then: func(a base.Answer) { j.finish(added(a.Err)) },
+		then: func(a base.Answer) { j.added(a.Err) },
 	})
 }
 
-// added is the reply of a job that has added a clause, or hasn't.
-func added(err api.Errno) api.Reply {
+// added ends a job that has added a clause, or hasn't.
+func (j *Job) added(err api.Errno) {
 	switch err {
 	case api.OK:
-		return api.Reply{Ok: true}
+		j.finish(api.Reply{Ok: true})
 	case api.ErrMany:
-		return api.Reply{Ball: exhausted("clauses")}
+		j.throw(exhausted("clauses"))
+	default:
+		j.throw(exhausted("cells"))
 	}
-	return api.Reply{Ball: exhausted("cells")}
 }
 
 // read reads a predicate's clauses, and goes on with them.
@@ -96,7 +97,7 @@ func (j *Job) read(p api.Pred, then func(found []base.Found)) {
 		},
 		then: func(a base.Answer) {
 			if a.Err != api.OK {
-				j.finish(api.Reply{Ball: exhausted("cells")})
+				j.throw(exhausted("cells"))
 				return
 			}
 			then(a.Found)
@@ -139,7 +140,7 @@ func (j *Job) takeFirst(p api.Pred, found []base.Found) {
 		then: func(a base.Answer) {
 			switch {
 			case a.Err != api.OK:
-				j.finish(api.Reply{Ball: exhausted("cells")})
+				j.throw(exhausted("cells"))
 			case a.Ok:
 				j.finish(j.giving(asWritten(first.Clause, j.goal.Args[0])))
 			default:

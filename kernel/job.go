@@ -84,7 +84,7 @@ func (j *Job) goOn() {
 	}
 }
 
-// finish ends a job.
+// finish ends a job whose reply follows from what was noted of its operations.
 func (j *Job) finish(r api.Reply) {
 	j.reply = r
 	j.next = nil
@@ -92,7 +92,7 @@ func (j *Job) finish(r api.Reply) {
 	j.kernel.threads[j.thread].job = nil
 }
 
-// settle ends a job that needs no operation: so it is noted itself.
+// settle ends a job whose reply follows from no operation, there being none or one with an error: so it is noted itself.
 func (j *Job) settle(r api.Reply) {
 	j.kernel.note(j.thread, j.goal, r)
 	j.finish(r)

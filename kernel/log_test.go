@@ -82,7 +82,7 @@ func TestSince(t *testing.T) {
 	}
 }
 
-// stepped steps a job beside an operation on a DB that has seen the same, and fails, if one is over ahead of the other; it answers how many entries there were behind each step.
+// stepped steps a job beside operations on a DB that has seen the same, and fails, if one is over ahead of the other, or if anything is noted but what has taken effect at each step, and at the last one the job itself, if its operation has an error.
 func stepped(t *testing.T, k *kernel.Kernel, j *kernel.Job, ops ...func() *base.Op) {
 	t.Helper()
 	for i, begin := range ops {
@@ -90,7 +90,8 @@ func stepped(t *testing.T, k *kernel.Kernel, j *kernel.Job, ops ...func() *base.
 		for over := false; !over; {
 			was, done := k.Len(), o.Done()
 			over = o.Step()
-			last := over && i == len(ops)-1
+			lacks := over && o.Answer().Err != api.OK
+			last := lacks || over && i == len(ops)-1
 			if j.Step() != last || j.Over() != last {
 				t.Fatalf("operation %d: over %v, the job's %v", i, over, j.Over())
 			}
@@ -98,8 +99,14 @@ func stepped(t *testing.T, k *kernel.Kernel, j *kernel.Job, ops ...func() *base.
 			if o.Done() && !done {
 				want++
 			}
+			if lacks {
+				want++
+			}
 			if k.Len() != want {
 				t.Fatalf("operation %d: %d entries, not %d", i, k.Len(), want)
+			}
+			if lacks {
+				return
 			}
 		}
 	}
@@ -122,5 +129,122 @@ func TestStepsOfTheDB(t *testing.T) {
 		stepped(t, k, begun(t, k, 1, co("retract", co("p", at("b")))), func() *base.Op { return d.All(1, p) })
 		stepped(t, k, begun(t, k, 1, co("retract", co("p", va(1)))), func() *base.Op { return d.All(1, p) }, func() *base.Op { return d.Erase(1, p, int64(n+1)) })
 		stepped(t, k, begun(t, k, 1, co("clause", at("p"), va(1))), func() *base.Op { return d.All(1, pred("p", 0)) })
+	}
+}
+
+// P20.2: a job whose operation finds no room is noted itself, with its ball, at the step at which it is over and not ahead of it; so it is of each kind of goal that may find none, in rooms of every size and with every bound.
+func TestNoRoomStepByStep(t *testing.T) {
+	found := map[string]int{}
+	for room := 60; room < 90; room++ {
+		for limbo := range 3 {
+			lackingRoom(t, api.Conf{Threads: 1, Cells: room, Limbo: limbo}, found)
+		}
+	}
+	for _, name := range []string{"assertz", "asserta", "retract"} {
+		if found[name] < 10 {
+			t.Errorf("%s has found no room %d times", name, found[name])
+		}
+	}
+}
+
+// lackingRoom lets goals that change clauses be done in some room, and counts those that find none.
+func lackingRoom(t *testing.T, c api.Conf, found map[string]int) {
+	t.Helper()
+	k := made(t, c, 1)
+	d, _ := base.New(c.Cells, c.Limbo)
+	p := pred("p", 2)
+	for i := range 12 {
+		u := co("p", va(9), nu(int64(i)))
+		added, _ := base.Clause(u)
+		name, front := "assertz", i%3 == 1
+		if front {
+			name = "asserta"
+		}
+		stepped(t, k, begun(t, k, 1, co(name, u)), func() *base.Op { return d.Assert(1, added, front) })
+		found[name] += lacked(t, k, co(name, u))
+		there := d.List(p)
+		if i%4 != 3 || len(there) == 0 {
+			continue
+		}
+		for _, taken := range []api.Term{co("p", va(4), va(3)), co(":-", co("p", va(8), va(2)), va(7))} {
+			g := co("retract", taken)
+			stepped(t, k, begun(t, k, 1, g), func() *base.Op { return d.All(1, p) }, func() *base.Op { return d.Erase(1, p, there[0].Id) })
+			if found[g.Name] += lacked(t, k, g); len(d.List(p)) < len(there) {
+				break
+			}
+		}
+	}
+}
+
+// lacked fails, if the log's last entry tells a ball of another goal, or another ball than that there is no room; it answers 1, if it tells this one.
+func lacked(t *testing.T, k *kernel.Kernel, g api.Term) int {
+	t.Helper()
+	all := k.Since(k.Len() - 1)
+	if len(all) != 1 || all[0].Reply.Ball.Kind == 0 {
+		return 0
+	}
+	want := `1 ` + text(renamed(g)) + ` = ` + resBall(`cells`)
+	if got := entryText(all[0]); got != want {
+		t.Fatalf("noted is %s, not %s", got, want)
+	}
+	return 1
+}
+
+// P20.2: a retract that was beaten and finds no room for the next clause: behind what was noted of its operations, and behind what others have done meanwhile.
+func TestNoRoomBehindOthers(t *testing.T) {
+	k := made(t, api.Conf{Threads: 2, Cells: 70, Limbo: 8}, 2)
+	does(t, k, 1, `assertz(p(1))`, `yes`, `'$add'(:-(p(1),true),1)`)
+	does(t, k, 1, `assertz((p(2) :- a))`, `yes`, `'$add'(:-(p(2),a),2)`)
+	j := begun(t, k, 1, goalOf(t, `retract((p(X) :- Y))`))
+	stepTill := func(noted string) {
+		t.Helper()
+		for was := k.Len(); k.Len() == was; {
+			j.Step()
+		}
+		if got := entryTexts(k.Since(k.Len() - 1)); got != noted {
+			t.Fatalf("noted is %s, not %s", got, noted)
+		}
+	}
+	stepTill(`1 '$read'(/(p,1),[1,2]) = yes`)
+	does(t, k, 2, `retract(p(1))`, `retract(p(1))`, `'$read'(/(p,1),[1,2])`, `'$cut'(/(p,1),1)`)
+	stepTill(`1 '$cut'(/(p,1),1) = no`)
+	for i, q := range []string{`q`, `r`, `s`, `u`} {
+		does(t, k, 2, `assertz(`+q+`)`, `yes`, `'$add'(:-(`+q+`,true),`+strconv.Itoa(i+3)+`)`)
+	}
+	does(t, k, 2, `asserta(v)`, resBall(`cells`))
+	for was := k.Len(); !j.Step(); was++ {
+		if k.Len() != was {
+			t.Fatalf("noted ahead of its end:\n%s", entryTexts(k.Since(was)))
+		}
+		settles(t, k, 2, `out(x)`, `yes`)
+	}
+	if got := entryTexts(k.Since(k.Len() - 1)); got != `1 retract(:-(p(_1),_2)) = `+resBall(`cells`) || replyText(j.Reply()) != resBall(`cells`) {
+		t.Errorf("%s\n%s", got, replyText(j.Reply()))
+	}
+	if got := entryTexts(k.Since(k.Len() - 2)[:1]); got != `2 out(x) = yes` {
+		t.Errorf("ahead of its end is noted %s", got)
+	}
+	does(t, k, 2, `p(X)`, `:-(p(2),a)`, `'$read'(/(p,1),[2])`)
+}
+
+// P20.2: each ball of an operation by hand, with the goal as it was asked, renamed; and the job's thread has none under way any more.
+func TestNoRoomByHand(t *testing.T) {
+	for goal, want := range map[string]string{
+		`assertz('')`:               `assertz('')`,
+		`asserta('')`:               `asserta('')`,
+		`assertz(p(a))`:             `assertz(p(a))`,
+		`asserta((p(B, A) :- A))`:   `asserta(:-(p(_1,_2),_2))`,
+		`assertz((p :- q, r(C,D)))`: `assertz(:-(p,','(q,r(_1,_2))))`,
+	} {
+		k := made(t, api.Conf{Cells: 60}, 1)
+		j := begun(t, k, 1, goalOf(t, goal))
+		run(t, j)
+		if got := entryTexts(k.Log()); got != `1 `+want+` = `+resBall(`cells`) || !same(k.Asks(1), api.Term{}) {
+			t.Errorf("%s: %s", goal, got)
+		}
+		if e := k.Log()[0]; e.Pick != 0 || !sameReply(e.Reply, j.Reply()) {
+			t.Errorf("%s: %v", goal, e)
+		}
+		does(t, k, 1, `clause(p, B)`, `no`, `'$read'(/(p,0),[]) = no`)
 	}
 }

@@ -312,7 +312,7 @@ func run(t testing.TB, j *kernel.Job) int {
 	return 0
 }
 
-// does lets a thread do a goal, and fails, if that isn't replied so, and noted in these entries; an entry's reply is yes, but for one that ends with "= no".
+// does lets a thread do a goal, and fails, if that isn't replied so, and noted in these entries; an entry's reply is yes, but for one that ends with "= no". Behind them a goal that is over with a ball is noted itself.
 func does(t testing.TB, k *kernel.Kernel, thread int, goal, reply string, entries ...string) {
 	t.Helper()
 	doesGoal(t, k, thread, goalOf(t, goal), reply, entries...)
@@ -332,6 +332,9 @@ func doesGoal(t testing.TB, k *kernel.Kernel, thread int, goal api.Term, reply s
 			e += " = yes"
 		}
 		want = append(want, strconv.Itoa(thread)+" "+e)
+	}
+	if strings.HasPrefix(reply, "ball ") {
+		want = append(want, strconv.Itoa(thread)+" "+text(renamed(goal))+" = "+reply)
 	}
 	if got := entryTexts(k.Since(was)); got != strings.Join(want, "\n") {
 		t.Fatalf("%.300s\nis noted\n%.600s\nnot\n%.600s", text(goal), got, strings.Join(want, "\n"))

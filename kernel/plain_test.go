@@ -148,6 +148,16 @@ func (p *plain) flaw(g api.Term) (api.Reply, bool) {
 	return api.Reply{}, false
 }
 
+// mayLack tells whether a reply says what only the room on the way says, not plain lists: that a goal that changes clauses has found none.
+func (p *plain) mayLack(g api.Term, r api.Reply) bool {
+	if great(g) || !aboutClauses(g) || g.Name == "clause" {
+		return false
+	}
+	_, flaw := p.flaw(g)
+	full := g.Name != "retract" && sameReply(r, thrown("resource_error", at("clauses")))
+	return !flaw && (full || sameReply(r, thrown("resource_error", at("cells"))))
+}
+
 // goalName is a goal's name and number of arguments.
 func goalName(g api.Term) string { return g.Name + "/" + strconv.Itoa(len(g.Args)) }
 

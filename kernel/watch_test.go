@@ -246,9 +246,9 @@ func (w *watch) behind(x *watched, a base.Answer) {
 	name := x.goal.Name
 	switch {
 	case a.Err == api.ErrMany:
-		w.finish(x, thrown("resource_error", at("clauses")))
+		w.lack(x, "clauses")
 	case a.Err != api.OK:
-		w.finish(x, thrown("resource_error", at("cells")))
+		w.lack(x, "cells")
 	case !aboutClauses(x.goal):
 		var alts []api.Term
 		for _, f := range a.Found {
@@ -275,6 +275,13 @@ func (w *watch) behind(x *watched, a base.Answer) {
 	default:
 		w.eraseNext(x, a)
 	}
+}
+
+// lack ends a job that has found no room: nothing else that is noted says so but its own entry.
+func (w *watch) lack(x *watched, what string) {
+	r := thrown("resource_error", at(what))
+	w.note(x.thread, x.goal, r)
+	w.finish(x, r)
 }
 
 // eraseNext goes on to the next clause that a retract could take.
@@ -367,6 +374,8 @@ func (w *watch) close() {
 			want = again.entry(e.Thread, e.Ask)
 		case again.waiting(e.Thread, e.Ask) != "":
 			w.t.Fatalf("%s, where it had to wait", entryText(e))
+		case again.mayLack(e.Ask, e.Reply):
+			want = e.Reply
 		default:
 			want = again.do(e.Thread, e.Ask)
 		}
