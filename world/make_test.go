@@ -182,14 +182,29 @@ func conf() api.Conf {
 	return api.Conf{Limits: api.Limits{Heap: api.MaxHeap, Stack: api.MaxStack, Trail: api.MaxHeap}, Threads: api.MaxThread, Cells: api.MaxCells, Limbo: api.MaxLimbo}
 }
 
-// made is a world with as much as may be.
+// stopped are the texts of goals that are told without their full stops, each with one behind it.
+func stopped(goals ...string) []string {
+	var all []string
+	for _, g := range goals {
+		all = append(all, g+" .")
+	}
+	return all
+}
+
+// made is a world with as much as may be, of goals that are told without their full stops.
 func made(t testing.TB, program string, goals ...string) *world.World {
 	t.Helper()
 	return madeOver(t, conf(), program, goals...)
 }
 
-// madeOver is a world over a configuration, whose threads have not been picked.
+// madeOver is a world over a configuration, of goals that are told without their full stops.
 func madeOver(t testing.TB, c api.Conf, program string, goals ...string) *world.World {
+	t.Helper()
+	return madeOf(t, c, program, stopped(goals...))
+}
+
+// madeOf is a world of goals' texts as they stand, whose threads have not been picked.
+func madeOf(t testing.TB, c api.Conf, program string, goals []string) *world.World {
 	t.Helper()
 	w, e := world.New(c, program, goals)
 	if w == nil || e != nil {

@@ -34,16 +34,16 @@ func spoilWorld(w *world.World) {
 
 // P22.5, P1: what is handed in is neither changed nor kept: goals and picks are written over behind the calls.
 func TestArguments(t *testing.T) {
-	goals := append(rememberingGoals(), "spare", "room")[:3]
+	goals := append(stopped(rememberingGoals()...), "spare", "room")[:3]
 	w, e := world.New(conf(), remembering, goals)
 	if e != nil {
 		t.Fatal(e)
 	}
-	if !slices.Equal(goals, rememberingGoals()) || !slices.Equal(goals[:5][3:], []string{"spare", "room"}) {
+	if !slices.Equal(goals, stopped(rememberingGoals()...)) || !slices.Equal(goals[:5][3:], []string{"spare", "room"}) {
 		t.Fatalf("New has changed the goals into %q", goals[:5])
 	}
 	for i := range goals[:5] {
-		goals[:5][i] = "nobody"
+		goals[:5][i] = "nobody."
 	}
 	alike := made(t, remembering, rememberingGoals()...)
 	picks := make([]int, 6, 8)

@@ -155,7 +155,7 @@ func TestProgramsTaken(t *testing.T) {
 	}
 }
 
-// P22.1, P1: the errors of goals, the first goal's first, wrapped in "goal".
+// P22.1, P1: the errors of goals, the first goal's first, wrapped in "goal": layer 10's of the text as it stands.
 func TestGoalErrors(t *testing.T) {
 	for _, c := range []struct {
 		goals []string
@@ -165,79 +165,92 @@ func TestGoalErrors(t *testing.T) {
 		{[]string{`a =`}, "goal: term: fault 101 at 3"},
 		{[]string{`a. b =`}, "goal: term: fault 101 at 6"},
 		{[]string{`a, (b`}, "goal: term: fault 101 at 5"},
-		{[]string{`f(a, % b)`}, "goal: term: fault 101 at 9"},
+		{[]string{`f(a, % b).`}, "goal: term: fault 101 at 10"},
 		{[]string{strings.Repeat("(", 100)}, "goal: term: fault 101 at 100"},
+		{[]string{`a b.`}, "goal: term: fault 100 at 2"},
 		{[]string{`a b`}, "goal: term: fault 100 at 2"},
 		{[]string{`a = .`}, "goal: term: fault 100 at 4"},
+		{[]string{`a).`}, "goal: term: fault 100 at 1"},
 		{[]string{`a)`}, "goal: term: fault 100 at 1"},
+		{[]string{`a.b.`}, "goal: term: fault 100 at 1"},
+		{[]string{`a..`}, "goal: term: fault 100 at 1"},
 		{[]string{`.`}, "goal: term: fault 100 at 0"},
 		{[]string{`a. .`}, "goal: term: fault 100 at 3"},
-		{[]string{`'a`}, "goal: token: fault 81 at 0"},
-		{[]string{`a, "`}, "goal: token: fault 80 at 3"},
-		{[]string{`a, /* b`}, "goal: token: fault 81 at 3"},
+		{[]string{`'a.`}, "goal: token: fault 81 at 0"},
+		{[]string{`a, ".`}, "goal: token: fault 80 at 3"},
+		{[]string{`a, /* b.`}, "goal: token: fault 81 at 3"},
 		{[]string{strings.Repeat(" ", api.MaxText+1)}, "goal: token: fault 2 at 0"},
-		{[]string{strings.Repeat(" ", api.MaxText-1) + `a`}, "goal: token: fault 2 at 0"}, // with its full stop it is too long
 		{[]string{strings.Repeat(" ", api.MaxText-1) + `a.`}, "goal: token: fault 2 at 0"},
+		{[]string{nested(101) + `.`}, "goal: term: fault 4 at 200"},
 		{[]string{nested(101)}, "goal: term: fault 4 at 200"},
-		{[]string{` ` + wide(2001)}, "goal: term: fault 2 at 1"},
-		{[]string{`a. :- op(700, xfx, '|')`}, "goal: term: fault 90 at 3"},
-		{[]string{`a`, `b`, `X`, `f(`}, "goal: fault 160 at 0"},
-		{[]string{`a`, `b`, `f(`, `X`}, "goal: term: fault 101 at 2"},
-		{[]string{`a b`, `f(`}, "goal: term: fault 100 at 2"},
+		{[]string{` ` + wide(2001) + `.`}, "goal: term: fault 2 at 1"},
+		{[]string{`a. :- op(700, xfx, '|').`}, "goal: term: fault 90 at 3"},
+		{[]string{`a.`, `b.`, `X.`, `f(`}, "goal: fault 160 at 0"},
+		{[]string{`a.`, `b.`, `f(`, `X.`}, "goal: term: fault 101 at 2"},
+		{[]string{`a b.`, `f(`}, "goal: term: fault 100 at 2"},
 	} {
 		refused(t, conf(), `p(1).`, c.goals, c.want)
 		refused(t, api.Conf{}, ``, c.goals, c.want) // ahead of the kernel's
 	}
 }
 
+// P22.1, P1: a goal's text that lacks the full stop behind its last term ends within it: ErrEnd at its length, whatever the term is.
+func TestGoalsWithoutStop(t *testing.T) {
+	for _, text := range []string{`a`, ` a`, `a `, "a\n", `p(X), q(X) `, `a. b`, `a. b. c`, `a % b.`, `a /* . */`, `'a.'`, `f(.)`, `f(0'.)`, `a + +.`, `-.`, `- 1`, `[]`, `{a}`, `!`, `:- a`, `(a :- b)`,
+		`X`, `_`, `3`, `-7`, `0'a`, `0'.`, `(X)`, `a. X`, `X. a`, `:- op(700, xfx, eq)`, `:- op(700, xfx, eq). a eq b`, `a. :- op(700, xfx, '|')`,
+		nested(100), ` ` + wide(2000), ` ` + wide(2001), strings.Repeat(" ", api.MaxText-1) + `a`} {
+		for _, goals := range [][]string{{text}, {`a.`, text}, {text, `a.`}, {`a.`, text, `X.`, `f(`, ``}} {
+			refused(t, conf(), `p.`, goals, "goal: term: fault 101 at "+strconv.Itoa(len(text)))
+			refused(t, api.Conf{}, `p.`, goals, "goal: term: fault 101 at "+strconv.Itoa(len(text)))
+		}
+	}
+}
+
 // P22.1, P1: a goal's text that isn't just one term, an atom or a compound one.
 func TestNoGoal(t *testing.T) {
-	for _, text := range []string{``, ` `, `% a`, `/* a */`, `X`, ` _`, `3`, `-7`, `0'a`, `(X)`, `a. b`, `a. b.`, `a. X`, `X. a`, `X.`, `3.`,
-		`:- op(700, xfx, eq)`, `:- op(700, xfx, eq).`, `:- op(700, xfx, eq). X`, `:- op(700, xfx, eq). a eq b. c`} {
-		for _, goals := range [][]string{{text}, {`a`, text}, {`a`, `b.`, text, `f(`, ``}} {
+	for _, text := range []string{``, ` `, "\n", `% a.`, `/* a. */`, `X.`, ` _ .`, `3.`, `-7.`, `0'a.`, `(X).`, `a. b.`, `a. X.`, `X. a.`, `a. a. a.`,
+		`:- op(700, xfx, eq).`, `:- op(700, xfx, eq). X.`, `:- op(700, xfx, eq). a eq b. c.`} {
+		for _, goals := range [][]string{{text}, {`a.`, text}, {`a.`, `b. `, text, `f(`, ``}} {
 			refused(t, conf(), ``, goals, "goal: fault 160 at 0")
 			refused(t, api.Conf{}, ``, goals, "goal: fault 160 at 0")
 		}
 	}
 }
 
-// P22.1: a goal is one term, with or without a full stop, blanks and remarks around it: what its thread asks for, or has come to, is that.
+// P22.1: a goal is one term with its full stop, blanks and remarks around it: what its thread asks for, or has come to, is that.
 func TestGoalsTaken(t *testing.T) {
 	for text, want := range map[string]string{
-		`a`:                                      "a",
-		`a.`:                                     "a",
-		` a . `:                                  "a",
-		"a % b":                                  "a",
-		"a. % b":                                 "a",
-		"% b\na /* c */":                         "a",
-		`!.`:                                     "!",
-		`X = Y`:                                  "=(_1,_1)",
-		`f(_, B, _)`:                             "f(_1,_2,_3)",
-		`a + +`:                                  "+(a,+)",
-		`-`:                                      "-",
-		`[]`:                                     "[]",
-		`[a|X]`:                                  "[a|_1]",
-		`{a}`:                                    "'{}'(a)",
-		`(a :- b)`:                               ":-(a,b)",
-		`:- a`:                                   ":-(a)",
-		`'X'`:                                    "'X'",
-		`f(0'.)`:                                 "f(46)",
-		`f('.')`:                                 "f('.')",
-		`- 1`:                                    "-(1)",
-		`:- op(700, xfx, eq). a eq b`:            "eq(a,b)",
-		`a eq. :- op(700, xf, eq).`:              "",
-		`a ** b. :- op(0, xfx, **)`:              "**(a,b)",
-		nested(100):                              nested(100),
-		nested(100) + ` . `:                      nested(100),
-		strings.Repeat(" ", api.MaxText-3) + `a`: "a",
+		`a.`:                           "a",
+		` a . `:                        "a",
+		"a\n.\n":                       "a",
+		"a % b.\n.":                    "a",
+		"a. % b":                       "a",
+		"a.% b":                        "a",
+		"% b\na /* c */.":              "a",
+		`!.`:                           "!",
+		`X = Y.`:                       "=(_1,_1)",
+		`f(_, B, _).`:                  "f(_1,_2,_3)",
+		`a + + .`:                      "+(a,+)",
+		`- .`:                          "-",
+		`[].`:                          "[]",
+		`[a|X].`:                       "[a|_1]",
+		`{a}.`:                         "'{}'(a)",
+		`(a :- b).`:                    ":-(a,b)",
+		`a :- b.`:                      ":-(a,b)",
+		`:- a.`:                        ":-(a)",
+		`'X'.`:                         "'X'",
+		`f(0'.).`:                      "f(46)",
+		`f('.').`:                      "f('.')",
+		`f(.) .`:                       "f('.')",
+		`- 1.`:                         "-(1)",
+		`:- op(700, xfx, eq). a eq b.`: "eq(a,b)",
+		`a ** b. :- op(0, xfx, **).`:   "**(a,b)",
+		nested(100) + `.`:              nested(100),
+		nested(100) + ` . `:            nested(100),
 		strings.Repeat(" ", api.MaxText-2) + `a.`: "a",
-		wide(2000): wide(2000),
+		wide(2000) + `.`: wide(2000),
 	} {
-		if want == "" {
-			refused(t, conf(), ``, []string{text}, "goal: term: fault 100 at 2")
-			continue
-		}
-		w := made(t, ``, `true`, text)
+		w := madeOf(t, conf(), ``, []string{`true.`, text})
 		rests(t, w)
 		got := w.Last(2).Term
 		if talk := w.Talk(2); len(talk) > 0 {
@@ -252,18 +265,18 @@ func TestGoalsTaken(t *testing.T) {
 // P22.1: what a goal's text means is told by the answer that it comes to.
 func TestGoalsMeant(t *testing.T) {
 	for text, want := range map[string]string{
-		`p(X)`:                              "yes p(1)\n",
-		` p(X) . `:                          "yes p(1)\n",
-		"p(X), X > 1 % the other one":       "yes ','(p(2),>(2,1))\n",
-		`X = 'a b'`:                         "yes =('a b','a b')\n",
-		`- 1 = X`:                           "yes =(-(1),-(1))\n",
-		`-1 = X`:                            "yes =(-1,-1)\n",
-		`[A,B|C] = [1,2]`:                   "yes =([1,2],[1,2])\n",
-		`f(_, _) = f(X, Y)`:                 "yes =(f(_1,_2),f(_1,_2))\n",
-		`:- op(700, xfx, eq). (a eq b) = X`: "yes =(eq(a,b),eq(a,b))\n",
-		`a = X. :- op(0, xfx, =)`:           "yes =(a,a)\n",
+		`p(X).`:                              "yes p(1)\n",
+		` p(X) . `:                           "yes p(1)\n",
+		"p(X), X > 1. % the other one":       "yes ','(p(2),>(2,1))\n",
+		`X = 'a b'.`:                         "yes =('a b','a b')\n",
+		`- 1 = X.`:                           "yes =(-(1),-(1))\n",
+		`-1 = X.`:                            "yes =(-1,-1)\n",
+		`[A,B|C] = [1,2].`:                   "yes =([1,2],[1,2])\n",
+		`f(_, _) = f(X, Y).`:                 "yes =(f(_1,_2),f(_1,_2))\n",
+		`:- op(700, xfx, eq). (a eq b) = X.`: "yes =(eq(a,b),eq(a,b))\n",
+		`a = X. :- op(0, xfx, =).`:           "yes =(a,a)\n",
 	} {
-		w := made(t, `p(1). p(2).`, text)
+		w := madeOf(t, conf(), `p(1). p(2).`, []string{text})
 		rests(t, w)
 		tells(t, w, 1, want)
 	}
@@ -277,27 +290,28 @@ func TestOperators(t *testing.T) {
 		goals   []string
 		want    string // nothing, if there is a world
 	}{
-		{eq, []string{`a eq b`, `c eq d.`}, ""},
-		{eq + " " + un, []string{`a eq b`}, "goal: term: fault 100 at 2"},
-		{eq, []string{un + ` a`, `a eq b`}, "goal: term: fault 100 at 2"},
-		{eq, []string{`a eq b. ` + un, `a`}, ""},
-		{eq, []string{`a eq b. :- op(0, xfx, eq)`, `a eq b`}, "goal: term: fault 100 at 2"},
-		{eq, []string{un + ` a eq b`}, "goal: term: fault 100 at 21"},
-		{``, []string{`a`, eq + ` b`, `a eq b`}, ""},
-		{``, []string{`a eq b`, eq + ` b`}, "goal: term: fault 100 at 2"},
-		{``, []string{`a`, eq + ` b`, `a eq b`, un + ` a`, `c eq d`}, "goal: term: fault 100 at 2"},
-		{``, []string{`:- op(200, xfy, eq). a eq b eq c`, `:- op(200, yfx, eq). a eq b eq c`, `a eq b eq c`}, ""},
-		{`:- op(0, fy, -). a(- , 1).`, []string{`- 1`}, "goal: term: fault 100 at 2"},
+		{eq, []string{`a eq b.`, `c eq d.`}, ""},
+		{eq + " " + un, []string{`a eq b.`}, "goal: term: fault 100 at 2"},
+		{eq, []string{un + ` a.`, `a eq b.`}, "goal: term: fault 100 at 2"},
+		{eq, []string{`a eq b. ` + un, `a.`}, ""},
+		{eq, []string{`a eq b. ` + un, `a eq b.`}, "goal: term: fault 100 at 2"},
+		{eq, []string{un + ` a eq b.`}, "goal: term: fault 100 at 21"},
+		{``, []string{`a.`, eq + ` b.`, `a eq b.`}, ""},
+		{``, []string{`a eq b.`, eq + ` b.`}, "goal: term: fault 100 at 2"},
+		{``, []string{`a eq. :- op(700, xf, eq).`}, "goal: term: fault 100 at 2"},
+		{``, []string{`a.`, eq + ` b.`, `a eq b.`, un + ` a.`, `c eq d.`}, "goal: term: fault 100 at 2"},
+		{``, []string{`:- op(200, xfy, eq). a eq b eq c.`, `:- op(200, yfx, eq). a eq b eq c.`, `a eq b eq c.`}, ""},
+		{`:- op(0, fy, -). a(- , 1).`, []string{`- 1.`}, "goal: term: fault 100 at 2"},
 	} {
 		if c.want != "" {
 			refused(t, conf(), c.program, c.goals, c.want)
 			continue
 		}
-		made(t, c.program, c.goals...)
+		madeOf(t, conf(), c.program, c.goals)
 	}
-	w := made(t, `:- op(200, xfy, eq). p(a eq b eq c).`, `p(X), out(X)`, `:- op(200, yfx, eq). out(a eq b eq c)`, `out(a eq b eq c)`)
-	made(t, ``, `true`) // another world's operators are its own
-	refused(t, conf(), ``, []string{`a eq b`}, "goal: term: fault 100 at 2")
+	w := madeOf(t, conf(), `:- op(200, xfy, eq). p(a eq b eq c).`, []string{`p(X), out(X).`, `:- op(200, yfx, eq). out(a eq b eq c).`, `out(a eq b eq c).`})
+	madeOf(t, conf(), ``, []string{`true.`}) // another world's operators are its own
+	refused(t, conf(), ``, []string{`a eq b.`}, "goal: term: fault 100 at 2")
 	rests(t, w)
 	for n, want := range []string{"eq(a,eq(b,c))", "eq(eq(a,b),c)", "eq(eq(a,b),c)"} {
 		if got := termTexts(w.Lines(n + 1)); got != want {
@@ -308,7 +322,7 @@ func TestOperators(t *testing.T) {
 
 // P22.1, P1: the kernel's errors come last: too few cells, then more goals than threads.
 func TestKernelErrors(t *testing.T) {
-	few := func(n int) []string { return slices.Repeat([]string{`true`}, n) }
+	few := func(n int) []string { return slices.Repeat([]string{`true.`}, n) }
 	for _, cells := range []int{math.MinInt, -1, 0, 1, 59, 60, 61, api.MaxCells, api.MaxCells + 1, math.MaxInt} {
 		for _, threads := range []int{math.MinInt, -1, 0, 1, 2, 7, 8, 9, math.MaxInt} {
 			for _, limbo := range []int{math.MinInt, 0, 1, api.MaxLimbo, math.MaxInt} {
@@ -322,14 +336,14 @@ func TestKernelErrors(t *testing.T) {
 					case n > allowed:
 						refused(t, c, `p.`, few(n), "kernel: fault 3 at 0")
 					default:
-						madeOver(t, c, `p.`, few(n)...)
+						madeOf(t, c, `p.`, few(n))
 					}
 				}
 			}
 		}
 	}
-	refused(t, api.Conf{}, `p.`, append(few(20), `X`), "goal: fault 160 at 0")
-	refused(t, api.Conf{Cells: 60}, `p.`, []string{`a`, `b`}, "kernel: fault 3 at 0")
+	refused(t, api.Conf{}, `p.`, append(few(20), `X.`), "goal: fault 160 at 0")
+	refused(t, api.Conf{Cells: 60}, `p.`, []string{`a.`, `b.`}, "kernel: fault 3 at 0")
 	madeOver(t, api.Conf{Cells: 60}, `p.`, `a`)
 	madeOver(t, api.Conf{Cells: 60}, `p.`)
 }

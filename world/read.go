@@ -37,7 +37,7 @@ func refusal(program []api.Clause) api.Errno {
 func readGoals(t *ops.Table, texts []string) ([]api.Term, error) {
 	var goals []api.Term
 	for _, text := range texts {
-		reads, err := read.All(t, stopped(t, text))
+		reads, err := read.All(t, text)
 		if err != nil {
 			return nil, err
 		}
@@ -56,18 +56,6 @@ func isOneGoal(reads []api.Read) bool {
 	}
 	_, ok := base.Of(reads[0].Term)
 	return ok
-}
-
-// stopped is a goal's text with a full stop, where it lacks this alone. A text that ends too early for one stays as it is: so it is told that, and where, it ends.
-func stopped(t *ops.Table, text string) string {
-	if _, err := read.All(t.Clone(), text); !fault.Is(err, api.ErrEnd) {
-		return text
-	}
-	whole := text + "\n." // on a line of its own, since the last one may end in a remark
-	if _, err := read.All(t.Clone(), whole); fault.At(err) >= len(text) {
-		return text
-	}
-	return whole
 }
 
 // newKernel makes a kernel with threads that have these goals.

@@ -15,7 +15,7 @@ func TestReadme(t *testing.T) {
         main :- message_queue_create(Q), thread_create(get(Q), _), p(X), thread_send_message(Q, X), fail.
         main.
         get(Q) :- thread_get_message(Q, X), out(got(X)), get(Q).
-    `, []string{`main`, `p(X), out(X), fail`})
+    `, []string{`main.`, `p(X), out(X), fail.`})
 	if err != nil {
 		t.Fatal(err)
 	}

@@ -38,7 +38,7 @@ func TestEnds(t *testing.T) {
 		conf := conf()
 		conf.Limits = c.limits
 		if c.want == "" {
-			refused(t, conf, growing, []string{c.goal}, "goal: token: fault 80 at 25")
+			refused(t, conf, growing, stopped(c.goal), "goal: token: fault 80 at 25")
 			continue
 		}
 		w := madeOver(t, conf, growing, c.goal, `thread_join(1, S)`)

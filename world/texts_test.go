@@ -68,7 +68,7 @@ func wrongWith(c api.Conf, program string, goals []string) string {
 		}},
 	}
 	for _, goal := range goals {
-		steps = append(steps, step{"goal", func() (e error) { return wrongGoal(&table, goal) }})
+		steps = append(steps, step{"goal", func() error { return wrongGoal(table, goal) }})
 	}
 	steps = append(steps, step{"kernel", func() error {
 		k, e := kernel.New(c, nil)
@@ -85,17 +85,9 @@ func wrongWith(c api.Conf, program string, goals []string) string {
 	return ""
 }
 
-// wrongGoal is what is wrong with a goal's text: of it as it stands, but that its last term may have no full stop.
-func wrongGoal(table **ops.Table, goal string) error {
-	alone, behind := (*table).Clone(), (*table).Clone()
-	terms, e := read.All(alone, goal)
-	more, e2 := read.All(behind, goal+"\n.")
-	switch {
-	case e == nil:
-		*table = alone
-	case fault.Code(e) == api.ErrEnd && (e2 == nil || fault.At(e2) < len(goal)):
-		*table, terms, e = behind, more, e2
-	}
+// wrongGoal is what is wrong with a goal's text, as it stands.
+func wrongGoal(table *ops.Table, goal string) error {
+	terms, e := read.All(table, goal)
 	if e == nil && (len(terms) != 1 || terms[0].Term.Kind < api.Atom) {
 		e = fault.New(api.ErrClause, 0)
 	}
@@ -114,7 +106,7 @@ func TestAnyTexts(t *testing.T) {
 		program := one(r, "", "p. ", ":- op(700, xfx, eq). p. ") + one(r, anyPieces(r, 8), anyRight(r, 3, "."), "")
 		var goals []string
 		for range r.Intn(4) {
-			goals = append(goals, one(r, anyPieces(r, 6), anyRight(r, 1, ""), anyRight(r, 2, one(r, "", ".", ". ", " ."))))
+			goals = append(goals, one(r, anyPieces(r, 6), anyRight(r, 1, one(r, ".", ". ", "\n.")), anyRight(r, 1, "."), anyRight(r, 2, one(r, "", ".", ". ", " ."))))
 		}
 		want := wrongWith(c, program, goals)
 		w, e := world.New(c, program, goals)

@@ -21,7 +21,7 @@ func TestAnyNumbers(t *testing.T) {
 	r := rand.New(rand.NewSource(1))
 	for range 400 {
 		c := api.Conf{Limits: api.Limits{Heap: one(r, numbers...), Stack: one(r, numbers...), Trail: one(r, numbers...)}, Threads: one(r, numbers...), Cells: one(r, numbers...), Limbo: one(r, numbers...)}
-		w, e := world.New(c, `p(1). p(2). q(X) :- p(X), assertz(d(X)), retract(d(Y)), out(Y), X > 1.`, []string{`q(X), message_queue_create(Q, -1), thread_get_message(Q, X)`})
+		w, e := world.New(c, `p(1). p(2). q(X) :- p(X), assertz(d(X)), retract(d(Y)), out(Y), X > 1.`, []string{`q(X), message_queue_create(Q, -1), thread_get_message(Q, X).`})
 		if (w == nil) == (e == nil) || (w == nil) != (c.Cells < 60) {
 			t.Fatalf("New(%v): %v", c, e)
 		}
